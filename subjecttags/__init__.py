@@ -1,0 +1,1 @@
+"""Rows of tags in front of subjects, and what programs make of them."""

@@ -94,17 +94,20 @@ def alike_classes(standings):
 
 
 def in_order_met(standings, classes):
-    """One standing for each class that is met from the standing 0 on, in that order."""
+    """One standing for each class that is met from the standing 0 on, in that order.
+
+    What stands beside the ways, be it a word or not, is told as it is.
+    """
     numbers = {classes[0]: 0}
     met = [0]
     told = []
     while len(told) < len(met):
-        word, ways = standings[met[len(told)]]
+        beside, ways = standings[met[len(told)]]
         for way in ways:
             if way is not None and classes[way] not in numbers:
                 numbers[classes[way]] = len(met)
                 met.append(way)
-        told.append((list(word), [None if way is None else numbers[classes[way]] for way in ways]))
+        told.append((beside, [None if way is None else numbers[classes[way]] for way in ways]))
     return told
 
 

@@ -1,16 +1,15 @@
 """The bounds [3]: every call within them ends within seconds."""
 
 import random
-import time
 import unittest
 
 from subjecttags.eaters import Eater, commute, is_settled, parting, rounds
 from subjecttags.errors import TooMany
 from subjecttags.makers import keep, press, put, strip
 from tests.reference import doing
+from tests.timed import Timed
 
 TAGS = list("fedcba")
-SECONDS = 5
 
 
 def large(rng, many=30, longest=8, same_words=False):
@@ -25,16 +24,7 @@ def large(rng, many=30, longest=8, same_words=False):
     return standings
 
 
-class Bounds(unittest.TestCase):
-    def within(self, call, *arguments):
-        began = time.monotonic()
-        try:
-            told = call(*arguments)
-        except TooMany:
-            told = None
-        self.assertLess(time.monotonic() - began, SECONDS)
-        return told
-
+class Bounds(Timed):
     def test_large_eaters(self):
         rng = random.Random(30)
         for same_words in (False, True):
@@ -75,8 +65,8 @@ class Bounds(unittest.TestCase):
         self.assertIsNone(self.within(parting, most, strip(TAGS, TAGS, 19).then(row.power(9))))
         self.assertIs(self.within(commute, row, row.power(8)), True)
         self.assertTrue(self.within(most.power, 1) == most)
-        self.assertIsNone(self.within(most.then, most))
-        self.assertIsNone(self.within(rounds, most))
+        self.assertIs(self.within(most.then, most), TooMany)
+        self.assertIs(self.within(rounds, most), TooMany)
         self.assertTrue(self.within(most.__contains__, ["a"] * 4000))
 
     def test_words_of_200_tags(self):

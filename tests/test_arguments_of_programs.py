@@ -5,7 +5,7 @@ import unittest
 from subjecttags import errors
 from subjecttags.keys import joins, keeps
 from subjecttags.mailbox import Mailbox
-from subjecttags.makers import keep, put, strip
+from subjecttags.makers import exchange, keep, put, strip
 from subjecttags.reaching import can_arise, count_arising, done, fewest, greatest, grows, machine
 from subjecttags.text import eater_text, read_eater, read_subject, subject_text
 from tests.test_arguments import NO_LISTS, NO_NUMBERS, Checking
@@ -199,9 +199,13 @@ class InTheirOrder(Checking):
         self.wrong(errors.InvalidPrograms, "index", None, Mailbox, [], None)
 
     def test_too_many_only_if_all_arguments_are_right(self):
-        letters = list("fedcba")
-        programs = [put(letters, ["a"])] + [strip(letters, ["a"], 1)]
-        self.wrong(errors.InvalidSubject, "index", 0, fewest, programs, [[]], [None] + ["a"] * 199)
+        letters = list("abcdef")
+        # Each tag needs a deed for each letter up to its own.
+        programs = [put(letters, ["a"]), exchange(letters, list(zip("abcde", "bcdef")))]
+        self.wrong(errors.TooMany, "limit", 1000, fewest, programs, [[]], ["f"] * 200)
+        self.wrong(errors.InvalidSubject, "index", None, fewest, programs, [[]], ["f"] * 201)
+        self.wrong(errors.InvalidSubject, "index", 199, fewest, programs, [[]], ["f"] * 199 + [None])
+        self.wrong(errors.InvalidStarts, "index", 1, fewest, programs, [[], ["g"]], ["f"] * 200)
         mailbox = Mailbox([put(TAGS, ["re"])], KEY)
         mailbox.begin(["re"] * 200)
         self.wrong(errors.TooMany, "limit", 200, mailbox.answer, 0, 0)

@@ -6,7 +6,7 @@ from itertools import product
 
 from subjecttags.eaters import Eater
 from subjecttags.makers import exchange, keep, once, press, put, strip
-from subjecttags.reaching import count_arising, done, fewest, greatest, grows
+from subjecttags.reaching import count_arising, greatest, grows
 from tests.reference import arising, is_growth, row_done, word_alone, words
 from tests.test_reaching import forms_of, samples, undoing
 

@@ -7,7 +7,7 @@ from subjecttags.eaters import Eater
 from subjecttags.errors import TooMany
 from subjecttags.makers import exchange, keep, once, press, put, strip
 from subjecttags.reaching import can_arise, count_arising, done, fewest, greatest, grows, machine
-from tests.reference import (all_parted, arising, doing, finite_machine, lead_to_ends, lets, numbered_as_met,
+from tests.reference import (all_parted, arising, finite_machine, lead_to_ends, lets, numbered_as_met,
                              plain_standings, random_standings, row_done, words)
 
 TAGS = ["re", "fwd", "list"]
